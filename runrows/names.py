@@ -12,10 +12,12 @@ HIGHEST = 127
 ROUND = 256
 
 
+def has_letters(text):
+    return len(text) > 0 and all([sign in LETTERS for sign in text])
+
+
 def has_word_form(text):
-    if len(text) < 1 or len(text) > LONGEST_WORD:
-        return False
-    return all([sign in LETTERS for sign in text])
+    return len(text) <= LONGEST_WORD and has_letters(text)
 
 
 def is_word(thing):

@@ -86,3 +86,48 @@ def run(part, steps):
         part.keep(now, kept, (), comes, more)
         kept = more
     return worths
+
+
+def refused(case, error, make, *handed):
+    """The refusal that comes of a call: of just this class, none under it."""
+    with case.assertRaises(error) as caught:
+        make(*handed)
+    case.assertIs(type(caught.exception), error)
+    return caught.exception
+
+
+def deep_told(depth):
+    """What deep tells, without the part being made."""
+    told = ("given", True)
+    for _ in range(depth - 1):
+        told = ("not", told)
+    return told
+
+
+def line_tells(line):
+    """All fields of an Input, a Row or a Use."""
+    kind = type(line).__name__
+    if kind == "Input":
+        return (kind, line.name, line.kind, line.on)
+    if kind == "Row":
+        return (kind, line.name, line.kind, line.part.told(), line.on)
+    return (kind, line.binds, line.module, tuple(part.told() for part in line.parts), line.on)
+
+
+def sheet_tells(sheet):
+    """All fields of a Sheet, and of what stands in it."""
+    return (
+        sheet.name, tuple(line_tells(line) for line in sheet.inputs), sheet.outputs,
+        tuple(line_tells(line) for line in sheet.lines),
+    )
+
+
+def book_tells(book):
+    """All fields of a Book, and of what stands in it, with the kinds beside them."""
+    return exact(tuple(sheet_tells(sheet) for sheet in book.sheets))
+
+
+def letters(many, ahead="q"):
+    """As many unlike words, of three letters; no kept word begins with a q."""
+    small = "abcdefghijklmnopqrstuvwxyz"
+    return [ahead + small[at // 26] + small[at % 26] for at in range(many)]
