@@ -35,6 +35,10 @@ def is_stretch(kind):
     return is_number(kind[0]) and is_number(kind[1]) and kind[0] <= kind[1]
 
 
+def plain_kind(kind):
+    return kind if is_plain_kind(kind) else "number"
+
+
 class Input:
     def __init__(self, name, kind, on=None):
         need_name(name)
@@ -165,6 +169,11 @@ def need_ons(sheet, found):
             need_sheet(on not in passed, "from on to on one comes round")
             passed[on] = True
             on = found[on].on
+
+
+def need_rows(sheet):
+    for line in sheet.lines:
+        need_sheet(isinstance(line, Row), "a sheet without uses is due")
 
 
 class Book:

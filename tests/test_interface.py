@@ -4,11 +4,14 @@ import pathlib
 import unittest
 
 import runrows
-from runrows import cutting, sheets, texts, trees
+from runrows import beats, cutting, kinds, needs, orders, placing, sheets, texts, trees
 from runrows.parts import Given, Turned
 
 FOLDER = pathlib.Path(runrows.__file__).parent
-STAGES = (("errors", "names", "parts", "timed", "trees"), ("sheets", "cutting", "texts"))
+STAGES = (
+    ("errors", "names", "parts", "timed", "trees"), ("sheets", "cutting", "texts"), ("placing",), ("kinds", "beats"),
+    ("needs", "orders"),
+)
 ARGUMENTS = (
     (trees.part_of, ["told"]), (trees.part_at, ["part", "place"]), (cutting.part_by, ["text"]),
     (texts.written, ["book"]), (texts.read, ["text"]),
@@ -16,6 +19,9 @@ ARGUMENTS = (
     (sheets.Use, ["binds", "module", "parts", "on"]), (sheets.Sheet, ["name", "inputs", "outputs", "lines"]),
     (sheets.Sheet.names, ["self"]), (sheets.Sheet.line, ["self", "name"]),
     (sheets.Book, ["sheets"]), (sheets.Book.main, ["self"]), (sheets.Book.sheet_of, ["self", "name"]),
+    (placing.placed, ["book"]), (kinds.kinds_of, ["sheet"]), (kinds.filled, ["sheet"]), (beats.beats_of, ["sheet"]),
+    (beats.parting, ["one", "other"]), (needs.needs_of, ["sheet"]), (orders.order, ["sheet"]),
+    (orders.is_order, ["sheet", "names"]),
 )
 
 
@@ -43,6 +49,10 @@ class Interface(unittest.TestCase):
 
     def test_the_package_itself_binds_nothing(self):
         self.assertEqual((FOLDER / "__init__.py").read_text(encoding="utf-8"), "")
+
+    def test_each_file_has_its_stage(self):
+        files = [path.stem for path in FOLDER.glob("*.py") if path.stem != "__init__"]
+        self.assertEqual(sorted(files), sorted(file for stage in STAGES for file in stage))
 
     def test_files_draw_from_none_of_later_stages(self):
         allowed = []
