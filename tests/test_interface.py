@@ -4,13 +4,13 @@ import pathlib
 import unittest
 
 import runrows
-from runrows import beats, cutting, kinds, needs, orders, placing, sheets, texts, trees
+from runrows import beats, boxes, cutting, kinds, machines, moves, needs, orders, placing, plain, sheets, texts, trees
 from runrows.parts import Given, Turned
 
 FOLDER = pathlib.Path(runrows.__file__).parent
 STAGES = (
     ("errors", "names", "parts", "timed", "trees"), ("sheets", "cutting", "texts"), ("placing",), ("kinds", "beats"),
-    ("needs", "orders"),
+    ("needs", "orders"), ("plain",), ("moves", "boxes", "machines"),
 )
 ARGUMENTS = (
     (trees.part_of, ["told"]), (trees.part_at, ["part", "place"]), (cutting.part_by, ["text"]),
@@ -21,7 +21,10 @@ ARGUMENTS = (
     (sheets.Book, ["sheets"]), (sheets.Book.main, ["self"]), (sheets.Book.sheet_of, ["self", "name"]),
     (placing.placed, ["book"]), (kinds.kinds_of, ["sheet"]), (kinds.filled, ["sheet"]), (beats.beats_of, ["sheet"]),
     (beats.parting, ["one", "other"]), (needs.needs_of, ["sheet"]), (orders.order, ["sheet"]),
-    (orders.is_order, ["sheet", "names"]),
+    (orders.is_order, ["sheet", "names"]), (plain.need_step, ["sheet", "step"]), (moves.moves_of, ["sheet"]),
+    (boxes.shared, ["begins", "moves", "outs"]), (boxes.crowd, ["sheet"]), (machines.made, ["sheet"]),
+    (machines.Running, ["machine"]), (machines.Running.step, ["self", "values"]), (machines.Running.state, ["self"]),
+    (machines.Running.put, ["self", "state"]),
 )
 
 
@@ -37,6 +40,12 @@ class Interface(unittest.TestCase):
             self.assertEqual(list(parameters), names, made)
             for name in names:
                 self.assertIs(parameters[name].default, None if name == "on" else inspect.Parameter.empty, made)
+
+    def test_an_argument_that_may_be_left_out(self):
+        parameters = inspect.signature(plain.plain).parameters
+        self.assertEqual(list(parameters), ["sheet", "steps", "names"])
+        empty = inspect.Parameter.empty
+        self.assertEqual([parameters[name].default for name in parameters], [empty, empty, None])
 
     def test_arguments_by_their_names(self):
         part = trees.part_of(told=("not", ("given", True)))

@@ -3,12 +3,15 @@ import unittest
 
 from runrows.beats import beats_of
 from runrows.kinds import kinds_of
+from runrows.machines import Running, made
 from runrows.orders import order
+from runrows.parts import Given, Named
 from runrows.placing import placed
-from runrows.sheets import Book, Use
+from runrows.plain import plain
+from runrows.sheets import Book, Input, Sheet, Use
 from runrows.texts import read
+from runrows.timed import Before, When
 from tests.helper import exact
-from tests.runs import run_sheet
 
 COUNTS = """\
 module counts
@@ -125,29 +128,49 @@ def comes(line, now):
     return line.on is None or now.get(line.on) is True
 
 
+def by_itself(sheets, module):
+    """The sheet of a module alone; a part may have values beyond a stretch, so all numbers may come in."""
+    names = [sheet.name for sheet in sheets]
+    alone = placed(Book(sheets[:names.index(module) + 1]))
+    inputs = [Input(line.name, "truth" if line.kind == "truth" else "number") for line in alone.inputs]
+    return Sheet(alone.name, inputs, alone.outputs, alone.lines)
+
+
+def run_machine(sheet, steps):
+    running = Running(made(sheet))
+    return [running.step(step) for step in steps]
+
+
 class RunsAsByItself(unittest.TestCase):
     def check(self, sheets, steps):
         """Each use in the last of these sheets, held against the used module by itself. How many steps were so."""
-        run = run_sheet(placed(Book(sheets)), steps)
+        sheet = placed(Book(sheets))
+        run = plain(sheet, steps)
         many = 0
         for use in sheets[-1].lines:
             if isinstance(use, Use):
-                names = [sheet.name for sheet in sheets]
-                alone = placed(Book(sheets[:names.index(use.module) + 1]))
+                alone = by_itself(sheets, use.module)
                 head = use.binds[0]
                 within = [now for now in run if comes(use, now)]
                 handed = [tuple(now[f"{head}.{line.name}"] for line in alone.inputs) for now in within]
                 many += len(handed)
-                for now, told in zip(within, run_sheet(alone, handed), strict=True):
+                for now, told in zip(within, plain(alone, handed), strict=True):
                     got = {name: now[f"{head}.{name}"] for name in alone.names() if f"{head}.{name}" in now}
                     self.assertEqual(exact(got), exact(told))
-                    ends = dict(zip(use.binds, alone.outputs, strict=True))
-                    for bind, output in ends.items():
+                    for bind, output in zip(use.binds, alone.outputs, strict=True):
                         self.assertEqual(exact(now[bind]), exact(told[output]))
                 for now in run:
                     if not comes(use, now):
                         self.assertEqual([name for name in now if name.startswith(f"{head}.") or name in use.binds], [])
+                self.check_machines(sheet, use, steps, alone, handed)
         return many
+
+    def check_machines(self, sheet, use, steps, alone, handed):
+        """The binds by the machine of the whole, at the steps at which they come: the outputs by that of the module."""
+        told = run_machine(Sheet(sheet.name, sheet.inputs, use.binds, sheet.lines), steps)
+        expected = run_machine(alone, handed)
+        self.assertEqual(exact([list(now.values()) for now in told if now]),
+                         exact([list(now.values()) for now in expected]))
 
     def test_the_samples_are_let_by(self):
         for text in TEXTS:
@@ -185,7 +208,27 @@ row t number = (p held c -1)
 end
 """
         steps = [(False, 5), (True, 1), (False, 50), (True, 2), (True, 3), (False, 9)]
-        run = run_sheet(placed(read(text)), steps)
+        run = plain(placed(read(text)), steps)
         self.assertEqual([now.get("p") for now in run], [None, 1, None, 3, 6, None])
         self.assertEqual([now["t"] for now in run], [-1, 1, 1, 3, 6, 6])
         self.assertEqual([now["q"] for now in run], [5, 6, 56, 58, 61, 70])
+
+    def test_used_once_and_several_times(self):
+        module = read(COUNTS).main()
+        chance = random.Random(1)
+        inputs = [Input("n", (-9, 9)), Input("t", "truth"), Input("c", "truth"), Input("d", "truth", "c")]
+        at_all = [Use([f"a{one}", f"b{one}"], "counts", [Named("n"), Named("t")]) for one in "xyz"]
+        on_c = [Use([f"e{one}", f"f{one}"], "counts", [When(Named("n"), "c"), Named("d")], "c") for one in "xyz"]
+        on_d = [Use([f"g{one}", f"h{one}"], "counts", [Given(2), Before(Named(f"h{one}"), True)], "d") for one in "xyz"]
+        steps = [any_step(chance, Sheet("main", inputs, ["n"], at_all)) for at in range(40)]
+        for uses in (at_all[:1], on_c[:1], on_d[:1], at_all, on_c, on_d, [at_all[0], on_c[0], on_d[0]]):
+            self.assertGreater(self.check((module, Sheet("main", inputs, ["n"], uses)), steps), 5 * len(uses))
+
+    def test_the_same_at_each_step_without_an_on(self):
+        module = read(COUNTS).main()
+        inputs = [Input("n", (-9, 9)), Input("t", "truth")]
+        main = Sheet("main", inputs, ["a", "b"], [Use(["a", "b"], "counts", [Named("n"), Named("t")])])
+        steps = [any_step(random.Random(seed), main) for seed in range(40)]
+        told = run_machine(placed(Book([module, main])), steps)
+        expected = run_machine(placed(Book([module])), steps)
+        self.assertEqual(exact([tuple(now.values()) for now in told]), exact([tuple(now.values()) for now in expected]))
